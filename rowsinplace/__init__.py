@@ -1,0 +1,1 @@
+"""Rowsinplace: calls that renumber the rows of lists, decided for all lists."""

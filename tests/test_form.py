@@ -1,0 +1,112 @@
+"""Holds the files of the package against rules of the language subset that a program can check."""
+import ast
+import builtins
+import pathlib
+import unittest
+
+PACKAGE = pathlib.Path(__file__).resolve().parent.parent / "rowsinplace"
+FILES = sorted(PACKAGE.rglob("*.py"))
+
+BUILTINS = {
+    "len", "range", "enumerate", "zip", "min", "max", "sum", "abs", "sorted", "reversed", "int", "str", "bool",
+    "list", "tuple", "dict", "set", "isinstance", "ord", "repr", "any", "all", "divmod", "iter", "next", "map",
+    "property", "staticmethod", "classmethod", "super", "NotImplemented", "Exception", "ValueError", "TypeError",
+    "KeyError", "LookupError", "IndexError",
+}
+BARRED = {
+    "register", "mro", "elements", "open", "input", "law", "version_info", "with_traceback", "add_note", "type",
+    "typing", "enum", "Enum", "Flag", "Generic", "Protocol", "ABC", "namedtuple", "NamedTuple", "TypedDict",
+}
+STATEMENTS = (ast.AsyncFunctionDef, ast.AsyncFor, ast.AsyncWith, ast.Global)
+TAKE_LISTS = {"any", "all", "min", "max", "sum", "sorted"}
+DUNDERS = {
+    "__init__", "__eq__", "__repr__", "__str__", "__len__", "__call__", "__iter__", "__bool__", "__contains__",
+    "__getitem__", "__setitem__", "__add__", "__radd__", "__rshift__", "__abs__", "__iadd__", "__isub__",
+}
+PARAMETERS = {
+    "__eq__": ["self", "other"], "__add__": ["self", "other"], "__radd__": ["self", "other"],
+    "__rshift__": ["self", "other"], "__iadd__": ["self", "other"], "__isub__": ["self", "other"],
+    "__contains__": ["self", "x"], "__getitem__": ["self", "at"], "__setitem__": ["self", "at", "worth"],
+    "__len__": ["self"], "__bool__": ["self"], "__abs__": ["self"], "__iter__": ["self"],
+}
+
+
+def trees():
+    for path in FILES:
+        yield path, ast.parse(path.read_text())
+
+
+def names_in(tree):
+    """Each name that a file uses in any way."""
+    for node in ast.walk(tree):
+        for field in ("id", "attr", "arg", "name"):
+            name = getattr(node, field, None)
+            if isinstance(name, str):
+                yield name
+
+
+class Form(unittest.TestCase):
+    def test_the_package_holds_only_its_files(self):
+        found = [path for path in PACKAGE.rglob("*") if path.is_file() and "__pycache__" not in path.parts]
+        self.assertEqual(sorted(found), FILES)
+        for path in FILES:
+            self.assertRegex(path.name, r"^[a-z_][a-z0-9_]*\.py$")
+
+    def test_characters_and_lines(self):
+        for path in FILES:
+            text = path.read_bytes()
+            self.assertTrue(all([byte == 10 or 32 <= byte <= 126 for byte in text]), path)
+            lines = text.split(b"\n")
+            self.assertLess(len(lines), 400, path)
+            self.assertLessEqual(max([len(line) for line in lines]), 120, path)
+
+    def test_functions_have_at_most_forty_lines(self):
+        for path, tree in trees():
+            for node in ast.walk(tree):
+                if isinstance(node, ast.FunctionDef):
+                    self.assertLessEqual(node.end_lineno - node.lineno + 1, 40, (path, node.name))
+
+    def test_modules_hold_docstrings_imports_functions_and_classes(self):
+        for path, tree in trees():
+            self.assertIsNotNone(ast.get_docstring(tree), path)
+            for node in tree.body[1:]:
+                self.assertIsInstance(node, (ast.ImportFrom, ast.FunctionDef, ast.ClassDef, ast.Assign), path)
+                if isinstance(node, ast.ImportFrom):
+                    self.assertEqual((node.module.split(".")[0], node.level), ("rowsinplace", 0), path)
+
+    def test_statements_and_names(self):
+        for path, tree in trees():
+            for node in ast.walk(tree):
+                self.assertNotIsInstance(node, STATEMENTS, path)
+                if isinstance(node, ast.Name) and hasattr(builtins, node.id):
+                    self.assertIn(node.id, BUILTINS, path)
+            for name in names_in(tree):
+                self.assertNotIn(name, BARRED, path)
+                self.assertTrue(not name.startswith("__") or name in DUNDERS, (path, name))
+
+    def test_double_underscore_methods_have_their_parameters(self):
+        for path, tree in trees():
+            for node in ast.walk(tree):
+                if isinstance(node, ast.FunctionDef) and node.name in PARAMETERS:
+                    self.assertEqual([arg.arg for arg in node.args.args], PARAMETERS[node.name], path)
+
+    def test_no_plus_equals_beside_its_operator(self):
+        # A class defines +=, so no function of the package uses it (L5 Operators).
+        for path, tree in trees():
+            for node in ast.walk(tree):
+                self.assertNotIsInstance(node, ast.AugAssign, path)
+
+    def test_quantifiers_and_sorted_take_lists(self):
+        # A class defines == and operators, so these take no generator expression (L5, L7).
+        for path, tree in trees():
+            for node in ast.walk(tree):
+                if isinstance(node, ast.Call) and isinstance(node.func, ast.Name) and node.func.id in TAKE_LISTS:
+                    for arg in node.args:
+                        self.assertNotIsInstance(arg, ast.GeneratorExp, path)
+
+    def test_stars_stand_before_names(self):
+        for path, tree in trees():
+            for node in ast.walk(tree):
+                if isinstance(node, ast.Call):
+                    starred = [arg.value for arg in node.args if isinstance(arg, ast.Starred)]
+                    self.assertTrue(all([isinstance(value, ast.Name) for value in starred]), path)
