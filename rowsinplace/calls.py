@@ -23,17 +23,17 @@ class Call:
             return
         if isinstance(step, Write):
             row = self._rows[step.row]
-            spots[row] = (self._lists[step.target], self._worth(spots, step.term))
+            spots[row] = (self._lists[step.target], self._worth_of(spots, step.term))
             _look(spots, row, index, visit)
         elif isinstance(step, Drop):
             del spots[self._rows[step.row]]
         else:
-            self._shift(spots, index, step, visit)
+            self._move(spots, index, step, visit)
 
-    def _shift(self, spots, index, step, visit):
+    def _move(self, spots, index, step, visit):
         rows = self._shifted(spots, step)
         if visit == "down":
-            rows = list(reversed(rows))
+            rows = rows[::-1]
         for row in rows:
             lst, place = spots[row]
             spots[row] = (lst, place + step.by)
@@ -42,7 +42,7 @@ class Call:
     def _shifted(self, spots, step):
         """The rows that a shift moves, by lists, places and names."""
         spared = [self._rows[word] for word in step.spared]
-        limits = [(sign, self._worth(spots, (base, offset))) for sign, base, offset in step.conditions]
+        limits = [(sign, self._worth_of(spots, (base, offset))) for sign, base, offset in step.conditions]
         found = []
         for row in spots:
             lst, place = spots[row]
@@ -58,9 +58,9 @@ class Call:
         if len(guard) == 1:
             return (self._lists["home"] == self._lists["to"]) == (guard == ("within",))
         left, less, sign, right, more = guard
-        return is_so(self._worth(spots, (left, less)), sign, self._worth(spots, (right, more)))
+        return is_so(self._worth_of(spots, (left, less)), sign, self._worth_of(spots, (right, more)))
 
-    def _worth(self, spots, term):
+    def _worth_of(self, spots, term):
         """The integer that a term stands for now."""
         base, offset = term
         if base in self._settled:

@@ -98,3 +98,69 @@ class Drawn:
                 there = False
         assert reference.first_wrong_line(op, lines) is None, lines
         return lines
+
+    def nearly(self, op, comparisons=6):
+        """The lines of a handler that is right, or wrong perhaps far from the ends of the lists alone."""
+        draw = self.draw
+        lines = list(draw.choice(RIGHT[op]))
+        for _ in range(20):
+            changed = self.changed(op, lines)
+            if len(changed) <= 6 and reference.first_wrong_line(op, changed) is None:
+                if reference.comparisons(changed) <= comparisons:
+                    lines = changed
+                    if draw.random() < 0.4:
+                        return lines
+        return lines
+
+    def changed(self, op, lines):
+        """Lines with one thing changed; perhaps they are no handler then."""
+        draw = self.draw
+        at = draw.randrange(len(lines) + 1)
+        kind = draw.random()
+        term = self.term(op, draw.random() < 0.5)
+        if kind < 0.35:
+            return self.with_pair(op, lines, at, term)
+        if kind < 0.5:
+            guard = f"{term} {draw.choice(SIGNS[:4])} {self.term(op, True)}"
+            return [f"when {guard} do {line}" if index == at and "when" not in line else line
+                    for index, line in enumerate(lines)]
+        if kind < 0.75:
+            more = f" and place {draw.choice(SIGNS[:4])} {term}"
+            return [line + more if index == at and line.endswith(TERM_ENDS) and "where" in line else line
+                    for index, line in enumerate(lines)]
+        if kind < 0.9:
+            return lines[:at] + [f"write x {draw.choice(lists_of(op))} {term}"] + lines[at:]
+        return lines[:at] + lines[at + 1:at + 2] + lines[at:at + 1] + lines[at + 2:]
+
+    def with_pair(self, op, lines, at, term):
+        """Lines with a shift and one that undoes it, or nearly so."""
+        draw = self.draw
+        lst, by = draw.choice(lists_of(op)), draw.choice((1, 1, 2))
+        below = draw.random() < 0.5
+        first = f"shift {lst} by {by if not below else -by} where place {'<' if below else '>'} {term}"
+        other = first.replace(f"by {by}", "by *").replace(f"by -{by}", f"by {by}").replace("by *", f"by -{by}")
+        kind = draw.random()
+        if kind < 0.3:
+            other = other.replace("place <", "place <=").replace("place >", "place >=")
+        elif kind < 0.5:
+            other = other.replace("place <", "place >").replace("place >", "place <", 1)
+        return lines[:at] + [first, other] + lines[at:]
+
+
+TERM_ENDS = ("x", "k", "1", "count to", "count home")
+
+RIGHT = {
+    "put": [["shift to by 1 where place >= k", "write x to k"], ["write x to k", "shift to by 1 where place >= x except x"]],
+    "add": [["write x to count to + 1"], ["write x to old last to + 1"]],
+    "take": [["shift home by -1 where place > x", "drop x"], ["drop x", "shift home by -1 where place > old x"]],
+    "move": [["shift home by -1 where place > x", "shift to by 1 where place >= k except x", "write x to k"],
+             ["shift home by -1 where place > old x", "write x to k", "shift to by 1 where place >= x except x"]],
+    "send": [["shift home by -1 where place > x", "when within do write x to count to",
+              "when apart do write x to count to + 1"],
+             ["shift home by -1 where place > x", "write x to old count to + 1", "when within do write x home x - 1"]],
+    "top": [["shift home by 1 where place < x", "write x home 1"], ["write x home 1", "shift home by 1 where place < old x except x"]],
+    "bottom": [["shift home by -1 where place > x", "write x home count home"]],
+    "up": [["shift home by 1 where place = x - 1", "when old x > 1 do write x home old x - 1"]],
+    "down": [["shift home by -1 where place = x + 1", "when old x < count home do write x home old x + 1"]],
+    "swap": [["write x to old y", "write y home old x"], ["write x to y", "write y home old x"]],
+}

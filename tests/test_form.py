@@ -31,6 +31,10 @@ PARAMETERS = {
 }
 
 
+LAZY = {"range", "zip", "enumerate", "reversed", "items", "keys", "values"}
+TAKE_LAZY = {"list", "tuple", "dict", "sorted", "sum", "any", "all", "enumerate", "zip", "min", "max", "len", "join"}
+
+
 def trees():
     for path in FILES:
         yield path, ast.parse(path.read_text())
@@ -43,6 +47,31 @@ def names_in(tree):
             name = getattr(node, field, None)
             if isinstance(name, str):
                 yield name
+
+
+def called(node):
+    """The name by which a call calls, without what stands ahead of a dot."""
+    return getattr(node.func, "id", getattr(node.func, "attr", None))
+
+
+def iterated_at_once(tree):
+    """The nodes that are iterated where they stand."""
+    for node in ast.walk(tree):
+        if isinstance(node, (ast.For, ast.comprehension)):
+            yield node.iter
+        if isinstance(node, ast.Call) and called(node) in TAKE_LAZY:
+            yield from node.args if called(node) in ("zip", "len") else node.args[:1]
+        if isinstance(node, ast.Compare):
+            yield from node.comparators
+
+
+def bound_in(function):
+    """The names of the parameters and local variables of a function."""
+    for node in ast.walk(function):
+        if isinstance(node, ast.arg):
+            yield node.arg
+        if isinstance(node, ast.Name) and isinstance(node.ctx, ast.Store):
+            yield node.id
 
 
 class Form(unittest.TestCase):
@@ -83,6 +112,43 @@ class Form(unittest.TestCase):
             for name in names_in(tree):
                 self.assertNotIn(name, BARRED, path)
                 self.assertTrue(not name.startswith("__") or name in DUNDERS, (path, name))
+
+    def test_no_variable_has_the_name_of_an_import_a_class_or_a_builtin(self):
+        for path, tree in trees():
+            taken = {name.name for node in tree.body if isinstance(node, ast.ImportFrom) for name in node.names}
+            taken |= {node.name for node in tree.body if isinstance(node, ast.ClassDef)}
+            functions = [node for node in ast.walk(tree) if isinstance(node, ast.FunctionDef)]
+            for name in [name for function in functions for name in bound_in(function)]:
+                self.assertNotIn(name, taken, path)
+                self.assertFalse(hasattr(builtins, name), (path, name))
+
+    def test_what_is_lazy_is_iterated_at_once(self):
+        for path, tree in trees():
+            whole = list(iterated_at_once(tree))
+            for node in ast.walk(tree):
+                if isinstance(node, ast.Call) and called(node) in LAZY:
+                    self.assertIn(node, whole, (path, node.lineno))
+
+    def test_loops_do_not_change_what_they_iterate_over(self):
+        for path, tree in trees():
+            for loop in ast.walk(tree):
+                if isinstance(loop, ast.For):
+                    over = ast.unparse(loop.iter)
+                    for node in [node for part in loop.body for node in ast.walk(part)]:
+                        if isinstance(node, ast.Subscript) and not isinstance(node.ctx, ast.Load):
+                            self.assertNotEqual(ast.unparse(node.value), over.removesuffix(".items()"), path)
+
+    def test_generators_are_iterated_at_once_and_have_names_of_their_own(self):
+        functions = [(path, node) for path, tree in trees() for node in ast.walk(tree) if isinstance(node, ast.FunctionDef)]
+        names = [node.name for path, node in functions
+                 if any(isinstance(inner, (ast.Yield, ast.YieldFrom)) for inner in ast.walk(node))]
+        for name in names:
+            self.assertEqual([node.name for path, node in functions].count(name), 1)
+        for path, tree in trees():
+            whole = list(iterated_at_once(tree))
+            for node in ast.walk(tree):
+                if isinstance(node, ast.Call) and called(node) in names:
+                    self.assertIn(node, whole, (path, node.lineno))
 
     def test_double_underscore_methods_have_their_parameters(self):
         for path, tree in trees():
