@@ -160,7 +160,7 @@ class Words(Calls):
 
     def test_guards_are_asked_as_the_step_begins(self):
         rows = {"x": ("p", 2), "a": ("p", 1)}
-        found = self.behind("take", ["shift home by 1", "when x = 3 do shift home by 1", "when x = 3 do drop x"][:2], rows, x="x")
+        found = self.behind("take", ["shift home by 1", "when x = 3 do shift home by 1"], rows, x="x")
         self.assertEqual(found, {"x": ("p", 4), "a": ("p", 3)})
 
     def test_places_of_thirty_digits(self):

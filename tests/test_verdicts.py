@@ -1,5 +1,6 @@
 import itertools
 import unittest
+from unittest import mock
 
 import reference_scenes
 from lines import Drawn
@@ -130,6 +131,13 @@ class Searched(Verdicts):
             found.append(self.assertAlike(op, lines, others))
         self.assertGreater(found.count("holds"), 60)
         self.assertGreater(found.count("near"), 60)
+
+    def test_the_search_through_few_scenes_only_saves_time(self):
+        for op, seed in itertools.product(OPERATIONS, range(400, 430)):
+            first, second = [Handler(op, *Drawn(number, 4).nearly(op, 3)) for number in (seed, seed + 500)]
+            found = [told(right(first)), told(dense(first)), told(alike(first, second))]
+            with mock.patch.object(module, "FEW", -1):
+                self.assertEqual([told(right(first)), told(dense(first)), told(alike(first, second))], found)
 
     def test_words_that_mean_the_same_on_dense_boards(self):
         for op, lines, others in (
