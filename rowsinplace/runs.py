@@ -196,14 +196,15 @@ def _shifted(step, rows, branch, field):
     for row in rows:
         place = branch.rows[row][1:]
         bounds = [bound for sign, limit in limits for bound in _bounds(place, sign, limit)]
-        after = []
-        for some, moved in found:
-            inside, others = some.divided(bounds)
-            after.extend([(other, moved) for other in others])
-            if inside is not None:
-                after.append((inside, [*moved, row]))
-        found = after
+        found = [pair for some, moved in found for pair in _told(some, moved, row, bounds)]
     return [some.with_rows(_moved(branch.rows, moved, step.by)) for some, moved in found]
+
+
+def _told(branch, moved, row, bounds):
+    """The parts of a branch, each with the rows that move there: the row too, if all bounds hold."""
+    inside, others = branch.divided(bounds)
+    found = [(other, moved) for other in others]
+    return found if inside is None else [*found, (inside, [*moved, row])]
 
 
 def _moved(before, rows, by):

@@ -9,6 +9,7 @@ from rowsinplace.plain import NEW, arguments_of
 from rowsinplace.slides import Slide
 
 WORLDS = ("alone", "apart", "within", "itself")
+RANKS = {"alone": 0, "apart": 1, "within": 2, "itself": 3}
 LETTERS = "abcdefghijklmnopqrstuvwxyz"
 GREATEST = 10 ** 30
 MOST_ROWS = 100
@@ -48,7 +49,7 @@ class Scene:
     @property
     def key(self):
         """What the scenes of an operation are ordered by."""
-        return (self.total, WORLDS.index(self.world), self.home, self.to, self.x, self.y, self.k)
+        return (self.total, RANKS[self.world], self.home, self.to, self.x, self.y, self.k)
 
     def __eq__(self, other):
         return isinstance(other, Scene) and self.op == other.op and self.key == other.key

@@ -4,7 +4,7 @@ from rowsinplace.errors import OtherOperation
 from rowsinplace.handlers import pattern
 from rowsinplace.regions import least, narrowed
 from rowsinplace.runs import Branch, Field, play
-from rowsinplace.scenes import WORLDS, Scene, scenes, worlds_of
+from rowsinplace.scenes import RANKS, WORLDS, Scene, scenes, worlds_of
 from rowsinplace.tables import check_comparisons, followed, kinds_of
 
 MOST_COMPARISONS = 6
@@ -189,5 +189,4 @@ def _key(field, region):
     for name, worth in zip(field.names, least(region)):
         numbers[name] = worth
     total = numbers["home"] + numbers["to"] + numbers["other"]
-    world = WORLDS.index(field.world)
-    return (total, world, numbers["home"], numbers["to"], numbers["x"], numbers["y"], numbers["k"])
+    return (total, RANKS[field.world], numbers["home"], numbers["to"], numbers["x"], numbers["y"], numbers["k"])

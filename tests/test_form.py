@@ -31,6 +31,10 @@ PARAMETERS = {
 }
 
 
+# What a property or an operator may not change or call goes for these methods, too.
+LOUD = {"__init__", "__call__", "__iter__", "__setitem__", "__iadd__", "__isub__"}
+CHANGE = {"append", "extend", "insert", "pop", "remove", "clear", "update", "setdefault", "reverse", "sort"}
+
 LAZY = {"range", "zip", "enumerate", "reversed", "items", "keys", "values"}
 TAKE_LAZY = {"list", "tuple", "dict", "sorted", "sum", "any", "all", "enumerate", "zip", "min", "max", "len", "join"}
 
@@ -72,6 +76,68 @@ def bound_in(function):
             yield node.arg
         if isinstance(node, ast.Name) and isinstance(node.ctx, ast.Store):
             yield node.id
+
+
+def functions_of_the_package():
+    """The functions and methods of the package by their names, each with whether it stands in a class."""
+    found = {}
+    for path, tree in trees():
+        for node in tree.body:
+            if isinstance(node, ast.FunctionDef):
+                found.setdefault(node.name, []).append(node)
+            if isinstance(node, ast.ClassDef):
+                for inner in node.body:
+                    if isinstance(inner, ast.FunctionDef):
+                        found.setdefault(inner.name, []).append(inner)
+                        if inner.name == "__init__":
+                            found.setdefault(node.name, []).append(inner)
+    return found
+
+
+def stored_attributes():
+    """The names of the attributes that the methods of the package assign."""
+    return {node.attr for path, tree in trees() for node in ast.walk(tree)
+            if isinstance(node, ast.Attribute) and isinstance(node.ctx, ast.Store)}
+
+
+def is_quiet(function):
+    """Whether a method is an operator or a property, or one that is held to their rules."""
+    decorators = [node.id for node in function.decorator_list if isinstance(node, ast.Name)]
+    is_operator = function.name.startswith("__") and function.name not in LOUD
+    return "property" in decorators or is_operator
+
+
+def run_by_operators():
+    """The functions and methods that operators and properties are and run, with all that these call."""
+    known = functions_of_the_package()
+    waiting = [node for nodes in known.values() for node in nodes if is_quiet(node)]
+    found = []
+    while waiting:
+        function = waiting.pop()
+        if function not in found:
+            found.append(function)
+            calls = [called(node) for node in ast.walk(function) if isinstance(node, ast.Call)]
+            waiting += [node for name in calls for node in known.get(name, [])]
+    return found
+
+
+def names_for_one_list(function):
+    """Pairs of names of a function that may stand for one list, by a plain assignment."""
+    for node in ast.walk(function):
+        if isinstance(node, ast.Assign) and isinstance(node.value, ast.Name):
+            for target in node.targets:
+                if isinstance(target, ast.Name):
+                    yield {target.id, node.value.id}
+
+
+def changed_in(rows):
+    """The names whose lists or dicts are changed in some statements."""
+    for node in [node for row in rows for node in ast.walk(row)]:
+        if isinstance(node, ast.Call) and isinstance(node.func, ast.Attribute) and node.func.attr in CHANGE:
+            if isinstance(node.func.value, ast.Name):
+                yield node.func.value.id
+        if isinstance(node, ast.Subscript) and not isinstance(node.ctx, ast.Load) and isinstance(node.value, ast.Name):
+            yield node.value.id
 
 
 class Form(unittest.TestCase):
@@ -137,6 +203,28 @@ class Form(unittest.TestCase):
                     for node in [node for part in loop.body for node in ast.walk(part)]:
                         if isinstance(node, ast.Subscript) and not isinstance(node.ctx, ast.Load):
                             self.assertNotEqual(ast.unparse(node.value), over.removesuffix(".items()"), path)
+
+    def test_loops_do_not_change_what_they_iterate_over_by_another_name(self):
+        for path, tree in trees():
+            for function in [node for node in ast.walk(tree) if isinstance(node, ast.FunctionDef)]:
+                pairs = list(names_for_one_list(function))
+                for loop in [node for node in ast.walk(function) if isinstance(node, ast.For)]:
+                    is_copy = isinstance(loop.iter, ast.Call) and called(loop.iter) in ("list", "tuple", "sorted")
+                    parts = [] if is_copy else [loop.iter, *getattr(loop.iter, "args", [])]
+                    walked = {node.id for node in parts if isinstance(node, ast.Name)}
+                    for pair in pairs:
+                        walked |= pair if walked & pair else set()
+                    self.assertFalse(walked & set(changed_in(loop.body)), (path, loop.lineno))
+
+    def test_operators_and_properties_call_no_name_that_is_an_attribute(self):
+        stored = stored_attributes()
+        self.assertIn("index", stored)
+        running = run_by_operators()
+        self.assertIn("_solved", [function.name for function in running])
+        for function in running:
+            for node in ast.walk(function):
+                if isinstance(node, ast.Call) and isinstance(node.func, ast.Attribute):
+                    self.assertNotIn(node.func.attr, stored, (function.name, node.lineno))
 
     def test_generators_are_iterated_at_once_and_have_names_of_their_own(self):
         functions = [(path, node) for path, tree in trees() for node in ast.walk(tree) if isinstance(node, ast.FunctionDef)]
