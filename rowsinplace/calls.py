@@ -19,25 +19,25 @@ class Call:
 
     def carry_out(self, spots, index, step, visit):
         """Carries out the step with that index; with a visit, each changed row is looked at."""
-        if not self._allows(spots, step.guard):
-            return
-        if isinstance(step, Write):
-            row = self._rows[step.row]
-            spots[row] = (self._lists[step.target], self._worth_of(spots, step.term))
-            _look(spots, row, index, visit)
-        elif isinstance(step, Drop):
-            del spots[self._rows[step.row]]
-        else:
-            self._move(spots, index, step, visit)
-
-    def _move(self, spots, index, step, visit):
-        rows = self._shifted(spots, step)
+        changed = self.changes(spots, step)
         if visit == "down":
-            rows = rows[::-1]
-        for row in rows:
-            lst, place = spots[row]
-            spots[row] = (lst, place + step.by)
-            _look(spots, row, index, visit)
+            changed = changed[::-1]
+        for row, spot in changed:
+            if spot is None:
+                del spots[row]
+            else:
+                spots[row] = spot
+                _look(spots, row, index, visit)
+
+    def changes(self, spots, step):
+        """The rows that a step changes, in the order of "up", each with its spot then; None off the board."""
+        if not self._allows(spots, step.guard):
+            return []
+        if isinstance(step, Write):
+            return [(self._rows[step.row], (self._lists[step.target], self._worth_of(spots, step.term)))]
+        if isinstance(step, Drop):
+            return [(self._rows[step.row], None)]
+        return [(row, (spots[row][0], spots[row][1] + step.by)) for row in self._shifted(spots, step)]
 
     def _shifted(self, spots, step):
         """The rows that a shift moves, by lists, places and names."""

@@ -17,6 +17,8 @@ class Cast:
             self.homes["x"] = "home"
         if op == "swap" and world != "itself":
             self.homes["y"] = self.list_of["to"]
+        # The rows that are named, where they are there before the call or behind it.
+        self.named = ["x", "y"] if "y" in self.homes else ["x"]
         self.is_within = world in ("within", "itself")
 
 

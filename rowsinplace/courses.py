@@ -35,10 +35,6 @@ class Course:
                 place = place + by
         return (lst, place)
 
-    def size_of(self, lst):
-        """The number of rows in a list behind the call."""
-        return self._counts[lst]
-
     def _carry_out(self, step):
         if isinstance(step, Write):
             base, offset = step.term

@@ -79,7 +79,7 @@ class Handler:
         for index, step in enumerate(self.steps):
             call.carry_out(after, index, step, visit)
         # Only now, when no step can fail any more, the board changes.
-        _bring(board, before, after)
+        bring(board, before, after)
 
 
 def pattern(op):
@@ -87,6 +87,22 @@ def pattern(op):
     arguments_of(op)
     lines = PATTERNS[op]
     return Handler(op, *lines)
+
+
+def has_last(handler):
+    """Whether a handler has the base old last of a list."""
+    bases = [base for step in handler.steps for base in step.reads()]
+    return "old last home" in bases or "old last to" in bases
+
+
+def bring(board, before, after):
+    """Brings the rows of a board from where they were to where they are afterwards."""
+    for row in before:
+        if row not in after:
+            board.drop(row)
+    for row in after:
+        if row not in before or before[row] != after[row]:
+            board[after[row]] = row
 
 
 def _steps(op, lines):
@@ -146,13 +162,3 @@ def _has(op, word):
     if word in ("y", "k"):
         return word in arguments_of(op)
     return True
-
-
-def _bring(board, before, after):
-    """Brings the rows of a board from where they were to where they are afterwards."""
-    for row in before:
-        if row not in after:
-            board.drop(row)
-    for row in after:
-        if row not in before or before[row] != after[row]:
-            board[after[row]] = row

@@ -2,11 +2,12 @@
 
 A region is a list of rows: region[u][v] is the least c for which u <= v + c in the whole region,
 u and v being indexes of numbers, and index 0 standing for zero. No region is empty, and none is
-ever changed, so that regions may have rows in common.
+ever changed, so that regions may have rows in common. An end is None, or a list, the index of a
+number and a constant.
 """
 
-# Stands for no bound: no sum of the constants that handlers have comes near to it.
-FAR = 10 ** 12
+# Stands for no bound: no sum of constants that handlers and papers have comes near to it.
+FAR = 10 ** 50
 
 
 def whole(many):
@@ -38,6 +39,25 @@ def parted(region, bound):
 def least(region):
     """The least values of all numbers in a region, by their indexes; it has them all at once."""
     return [-far for far in region[0]]
+
+
+def unlike(region, end, other):
+    """The parts of a region in which two ends are different."""
+    if end is None or other is None or end[0] != other[0]:
+        return [] if end == other else [region]
+    u, v, c = end[1], other[1], other[2] - end[2]
+    parts = [narrowed(region, (u, v, c - 1)), narrowed(region, (v, u, -c - 1))]
+    return [part for part in parts if part is not None]
+
+
+def meeting(region, end, other):
+    """The part of a region in which two ends are the same spot, as a list; empty without such a part."""
+    if end is None or other is None or end[0] != other[0]:
+        return []
+    region = narrowed(region, (end[1], other[1], other[2] - end[2]))
+    if region is not None:
+        region = narrowed(region, (other[1], end[1], end[2] - other[2]))
+    return [] if region is None else [region]
 
 
 def _closed(region, u, v, c):

@@ -1,25 +1,25 @@
-"""Runs: the call of a handler in all scenes of a world at once.
+"""Runs: calls in all scenes of a world at once.
 
 The places of rows are told as a number of the scene plus a constant. Where a step asks how two
-such places lie, the scenes are parted, if they do not all have the same answer.
+such places lie, the scenes are parted, if they do not all have the same answer. What is run are
+events: tuples of a caller and a step of its handler, or None as its call begins.
 """
-from rowsinplace.casts import Cast
-from rowsinplace.regions import narrowed, parted, whole
-from rowsinplace.steps import Drop, Shift, Write
-
-ROWS = ("x", "y", "row", "next")
+from rowsinplace.regions import least, narrowed, parted, whole
+from rowsinplace.steps import Drop, Write
 
 
 class Branch:
-    """Scenes in which all went alike so far: their region, what was asked, and where rows are.
+    """Scenes in which all went alike so far.
 
-    The rows are in a dict to tuples (list, index of a number, constant).
+    They have a region, the bounds that were asked, the rows in a dict to ends, and what the words
+    of the calls mean that have begun.
     """
 
-    def __init__(self, region, path, rows):
+    def __init__(self, region, path, rows, senses):
         self.region = region
         self.path = path
         self.rows = rows
+        self.senses = senses
 
     def divided(self, bounds):
         """The branch in which all bounds hold, or None, and a list of the others."""
@@ -31,188 +31,239 @@ class Branch:
                 return (None, [*others, inside])
             if no is not None:
                 u, v, c = bound
-                others.append(Branch(no, (*inside.path, (v, u, -c - 1)), self.rows))
-                inside = Branch(yes, (*inside.path, bound), self.rows)
+                others.append(Branch(no, (*inside.path, (v, u, -c - 1)), self.rows, self.senses))
+                inside = Branch(yes, (*inside.path, bound), self.rows, self.senses)
         return (inside, others)
 
     def with_rows(self, rows):
         """The same scenes, with rows at other spots."""
-        return Branch(self.region, self.path, rows)
+        return Branch(self.region, self.path, rows, self.senses)
+
+    def with_sense(self, name, sense):
+        """The same scenes, with a call that has begun."""
+        return Branch(self.region, self.path, self.rows, {**self.senses, name: sense})
 
 
 class Field:
-    """The scenes of an operation and a world, with up to two rows of a list besides x and y."""
+    """The numbers of some scenes, and the rows that are told apart in them, by their lists."""
 
-    def __init__(self, op, world, kinds):
-        self.op = op
-        self.world = world
-        self.cast = Cast(op, world)
-        self.names = _names(op, world, self.cast, kinds)
+    def __init__(self, names, homes, bounds, lasts):
+        self.names = ("zero", *names)
         self.ranks = {name: index for index, name in enumerate(self.names)}
-        homes = {**self.cast.homes, **{row: lst for row, lst in zip(("row", "next"), kinds)}}
-        # Where the rows are before the call, and what bases are worth that stay as they are.
+        self.homes = homes
         self.rows = {row: (homes[row], self.ranks[row], 0) for row in homes}
-        self.settled = _settled(self.cast, self.ranks)
-        self._homes = homes
+        # The numbers that are the last places of the lists before all calls.
+        self.lasts = lasts
+        self._bounds = bounds
 
     def starts(self):
         """The branches before a call, one for each order of the rows that are told apart."""
         region = whole(len(self.names) - 1)
-        for u, v, c in standing(self.op, self.world, self._homes, self.names):
+        for u, v, c in self._bounds:
             region = narrowed(region, (self.ranks[u], self.ranks[v], c))
-        found = [Branch(region, (), self.rows)]
-        for lst in self.cast.lists:
-            rows = [self.ranks[row] for row in ROWS if self._homes.get(row) == lst]
-            ways = _orders(rows, self.ranks.get("row"), self.ranks.get("next"))
-            found = [_ordered(branch, way) for branch in found for way in ways]
+        found = [Branch(region, (), self.rows, {})]
+        rows = list(self.homes)
+        for index, other in enumerate(rows):
+            for row in rows[:index]:
+                if self.homes[row] == self.homes[other]:
+                    pair = (self.ranks[row], self.ranks[other])
+                    found = [part for branch in found for part in _ordered(branch, pair, row == "row")]
         return found
 
+    def again(self, branch):
+        """The scenes of a branch, before all calls."""
+        return Branch(branch.region, branch.path, self.rows, {})
+
     def rows_in(self, branch, lst):
-        """The number of rows of a list now, as an index and a constant."""
-        now = [row for row in ("x", "y") if row in branch.rows and branch.rows[row][0] == lst]
-        before = [row for row in ("x", "y") if self._homes.get(row) == lst]
+        """The number of rows of a list now, as the index of a number and a constant."""
+        now = [row for row in branch.rows if branch.rows[row][0] == lst]
+        before = [row for row in self.homes if self.homes[row] == lst]
         return (self.ranks[lst], len(now) - len(before))
 
-
-def standing(op, world, homes, names):
-    """The bounds that all scenes of a world satisfy, over some names; homes has the lists of rows."""
-    found = []
-    for name in names:
-        if name in ("home", "to", "other"):
-            found.append(("zero", name, 0))
-        elif name in homes or name == "k":
-            found.append(("zero", name, -1))
-    found.extend([(row, homes[row], 0) for row in homes if row in names])
-    if "k" in names:
-        found.append(("k", "home", 0) if world == "within" else ("k", "to", 1))
-    return found
+    def told(self, region):
+        """The least values of the numbers in a region, by their names."""
+        return {name: worth for name, worth in zip(self.names, least(region))}
 
 
-def play(handler, field, watched, branches):
-    """The branches behind a call; of the rows, the places of those that are watched are told."""
-    lives = _lives(handler, field.cast, watched)
-    for step, live in zip(handler.steps, lives):
-        branches = [after for branch in branches for after in _behind(step, live, branch, field)]
+class Caller:
+    """One of the calls of a run: its handler, and what its rows, its list to and its place k are.
+
+    The list to is None where it is the list of y; k is the index of a number and a constant.
+    """
+
+    def __init__(self, name, handler, rows, to, k):
+        self.name = name
+        self.rows = rows
+        self.to = to
+        self.k = k
+        self.steps = handler.steps
+        self.bases = [base for step in handler.steps for base in step.reads()]
+
+    def events(self):
+        """What is run if the call is alone: its beginning, and its steps."""
+        return [(self, None), *[(self, step) for step in self.steps]]
+
+
+class Sense:
+    """What the words of a call mean from its beginning on, in the scenes of a branch."""
+
+    def __init__(self, caller, branch, field):
+        self.rows = caller.rows
+        self.lists = _lists(caller, branch)
+        self.is_within = self.lists.get("home") == self.lists.get("to")
+        self._settled = {"0": (0, 0), "k": caller.k}
+        for word, row in self.rows.items():
+            if row in branch.rows:
+                self._settled[f"old {word}"] = branch.rows[row][1:]
+        for word, lst in self.lists.items():
+            self._settled[f"old count {word}"] = field.rows_in(branch, lst)
+            if lst in field.lasts:
+                self._settled[f"old last {word}"] = (field.ranks[field.lasts[lst]], 0)
+
+    def worth(self, branch, field, base, offset):
+        """What a term stands for now, as the index of a number and a constant."""
+        if base in self._settled:
+            number, more = self._settled[base]
+        elif base in self.rows:
+            number, more = branch.rows[self.rows[base]][1:]
+        else:
+            number, more = field.rows_in(branch, self.lists[base.removeprefix("count ")])
+        return (number, more + offset)
+
+
+def play(events, field, watched, branches):
+    """The branches behind events; of the rows, the places of those that are watched are told."""
+    for event, live in zip(events, lives(events, watched)):
+        branches = [after for branch in branches for after in behind(event, live, branch, field)]
     return branches
 
 
-def _names(op, world, cast, kinds):
-    """The names of the numbers by their indexes; the list other counts only with its rows."""
-    lists = [lst for lst in cast.lists if lst != "other" or "other" in kinds]
-    k = ["k"] if op in ("put", "move") else []
-    return ["zero", *lists, *cast.homes, *k, *[row for row, lst in zip(("row", "next"), kinds)]]
-
-
-def _settled(cast, ranks):
-    """What the bases are worth that stay as they are when the call begins."""
-    found = {"0": 0, "k": ranks.get("k")}
-    for word, row in cast.row_of.items():
-        found[f"old {word}"] = ranks.get(row)
-    for word, lst in cast.list_of.items():
-        # The lists are dense, so the last place is the number of rows.
-        found[f"old count {word}"] = ranks.get(lst)
-        found[f"old last {word}"] = ranks.get(lst)
-    return found
-
-
-def _orders(rows, row, following):
-    """All orders of rows; the second row of a kind, if it is there, is never ahead of the first."""
-    if not rows:
-        return [[]]
-    found = []
-    for first in rows:
-        if first != following or row not in rows:
-            rest = [other for other in rows if other != first]
-            found.extend([[first, *way] for way in _orders(rest, row, following)])
-    return found
-
-
-def _ordered(branch, way):
-    """The part of a branch in which the places of rows are in an order."""
-    for row, other in zip(way, way[1:]):
-        bound = (row, other, -1)
-        branch = Branch(narrowed(branch.region, bound), (*branch.path, bound), branch.rows)
-    return branch
-
-
-def _lives(handler, cast, watched):
-    """For each step the rows whose places still matter behind it."""
+def lives(events, watched):
+    """For each event the rows whose places still matter behind it."""
     live = list(watched)
     found = []
-    for step in handler.steps[::-1]:
+    for event in events[::-1]:
         found.append(live)
-        gone = []
-        if isinstance(step, Drop) or (isinstance(step, Write) and step.guard is None):
-            gone = [cast.row_of[step.row]]
-        read = [cast.row_of[base] for base in step.reads() if base in cast.row_of]
-        live = [row for row in ROWS if row in read or (row in live and row not in gone)]
+        read = _read(event)
+        kept = [row for row in live if row not in _overwritten(event)]
+        live = [*read, *[row for row in kept if row not in read]]
     return found[::-1]
 
 
-def _behind(step, live, branch, field):
-    """The branches that a branch becomes behind a step."""
-    rows = _concerned(step, live, branch, field.cast) if isinstance(step, Shift) else []
-    if isinstance(step, Shift) and not rows:
-        return [branch]
-    inside, others = _guarded(step.guard, branch, field)
-    if inside is None:
-        return others
-    if isinstance(step, Shift):
-        return others + _shifted(step, rows, inside, field)
-    after = dict(inside.rows)
+def behind(event, live, branch, field):
+    """The branches that a branch becomes behind an event."""
+    caller, step = event
+    if step is None:
+        return [branch.with_sense(caller.name, Sense(caller, branch, field))]
     if isinstance(step, Drop):
-        del after["x"]
-    else:
-        base, more = step.term
-        worth, offset = _worth(inside, field, base, more)
-        after[field.cast.row_of[step.row]] = (field.cast.list_of[step.target], worth, offset)
-    return [*others, inside.with_rows(after)]
+        gone = caller.rows["x"]
+        return [branch.with_rows({row: branch.rows[row] for row in branch.rows if row != gone})]
+    parts, others = changes(event, live, branch, field)
+    return [*others, *[part.with_rows({**part.rows, **changed}) for part, changed in parts]]
 
 
-def _concerned(step, live, branch, cast):
-    """The rows that matter and that a shift moves, if they satisfy its conditions."""
-    spared = [cast.row_of[row] for row in step.spared]
-    rows = [row for row in live if row in branch.rows and row not in spared]
+def changes(event, rows, branch, field):
+    """What a shift or a write changes of some rows.
+
+    That is a list of the parts of a branch in which the guard holds, if there are rows that it may
+    change, each with a dict from the rows it changes to their ends; and a list of the other parts.
+    """
+    caller, step = event
+    sense = branch.senses[caller.name]
+    rows = _concerned(step, rows, branch, sense)
+    if not rows:
+        return ([], [branch])
+    inside, others = _guarded(step.guard, branch, field, sense)
+    if inside is None:
+        return ([], others)
+    if isinstance(step, Write):
+        base, offset = step.term
+        end = (sense.lists[step.target], *sense.worth(inside, field, base, offset))
+        return ([(inside, {sense.rows[step.row]: end})], others)
+    return (_shifted(step, rows, inside, field, sense), others)
+
+
+def _ordered(branch, pair, is_settled):
+    """The parts of a branch in which one of two rows is ahead of the other one, or just the first is."""
+    row, other = pair
+    bounds = [(row, other, -1)] if is_settled else [(row, other, -1), (other, row, -1)]
+    parts = [(narrowed(branch.region, bound), (*branch.path, bound)) for bound in bounds]
+    parts = [(region, path) for region, path in parts if region is not None]
+    if len(parts) == 1:
+        # Nothing was asked.
+        parts = [(parts[0][0], branch.path)]
+    return [Branch(region, path, branch.rows, branch.senses) for region, path in parts]
+
+
+def _lists(caller, branch):
+    """The lists home and to of a call as it begins, as far as it has them."""
+    found = {}
+    if caller.rows["x"] in branch.rows:
+        found["home"] = branch.rows[caller.rows["x"]][0]
+    if caller.to is not None:
+        found["to"] = caller.to
+    elif "y" in caller.rows:
+        found["to"] = branch.rows[caller.rows["y"]][0]
+    return found
+
+
+def _read(event):
+    """The rows whose places an event reads."""
+    caller, step = event
+    if step is None:
+        return [row for word, row in caller.rows.items() if f"old {word}" in caller.bases]
+    return [caller.rows[base] for base in step.reads() if base in caller.rows]
+
+
+def _overwritten(event):
+    """The rows whose places ahead of an event do not matter behind it."""
+    caller, step = event
+    if isinstance(step, Drop) or (isinstance(step, Write) and step.guard is None):
+        return [caller.rows[step.row]]
+    return []
+
+
+def _concerned(step, rows, branch, sense):
+    """Those of some rows that a step may change; a written row also if it may come to another list."""
+    if isinstance(step, Write):
+        row, lst = sense.rows[step.row], sense.lists[step.target]
+        stays = row in branch.rows and branch.rows[row][0] == lst
+        return [row] if row in rows or not stays else []
+    spared = [sense.rows[word] for word in step.spared]
+    rows = [row for row in rows if row in branch.rows and row not in spared]
     if step.target == "all":
         return rows
-    lst = cast.list_of[step.target]
-    return [row for row in rows if branch.rows[row][0] == lst]
+    return [row for row in rows if branch.rows[row][0] == sense.lists[step.target]]
 
 
-def _guarded(guard, branch, field):
+def _guarded(guard, branch, field, sense):
     """The part of a branch in which a guard holds, or None, and a list of the others."""
     if guard is None:
         return (branch, [])
     if len(guard) == 1:
-        return (branch, []) if field.cast.is_within == (guard == ("within",)) else (None, [branch])
+        return (branch, []) if sense.is_within == (guard == ("within",)) else (None, [branch])
     left, less, sign, right, more = guard
-    return branch.divided(_bounds(_worth(branch, field, left, less), sign, _worth(branch, field, right, more)))
+    first, second = sense.worth(branch, field, left, less), sense.worth(branch, field, right, more)
+    return branch.divided(_bounds(first, sign, second))
 
 
-def _shifted(step, rows, branch, field):
-    """The branches behind a shift, if its guard holds, that may move some rows."""
-    limits = [(sign, _worth(branch, field, base, offset)) for sign, base, offset in step.conditions]
-    found = [(branch, [])]
+def _shifted(step, rows, branch, field, sense):
+    """The parts of a branch behind a shift, if its guard holds, that may move some rows."""
+    limits = [(sign, sense.worth(branch, field, base, offset)) for sign, base, offset in step.conditions]
+    found = [(branch, {})]
     for row in rows:
-        place = branch.rows[row][1:]
-        bounds = [bound for sign, limit in limits for bound in _bounds(place, sign, limit)]
-        found = [pair for some, moved in found for pair in _told(some, moved, row, bounds)]
-    return [some.with_rows(_moved(branch.rows, moved, step.by)) for some, moved in found]
+        lst, number, offset = branch.rows[row]
+        bounds = [bound for sign, limit in limits for bound in _bounds((number, offset), sign, limit)]
+        end = (lst, number, offset + step.by)
+        found = [pair for part, moved in found for pair in _parts(part, moved, bounds, row, end)]
+    return found
 
 
-def _told(branch, moved, row, bounds):
-    """The parts of a branch, each with the rows that move there: the row too, if all bounds hold."""
+def _parts(branch, moved, bounds, row, end):
+    """The parts of a branch with the rows that move there: the row, too, if all bounds hold."""
     inside, others = branch.divided(bounds)
     found = [(other, moved) for other in others]
-    return found if inside is None else [*found, (inside, [*moved, row])]
-
-
-def _moved(before, rows, by):
-    after = dict(before)
-    for row in rows:
-        lst, worth, offset = before[row]
-        after[row] = (lst, worth, offset + by)
-    return after
+    return found if inside is None else [*found, (inside, {**moved, row: end})]
 
 
 def _bounds(left, sign, right):
@@ -224,15 +275,3 @@ def _bounds(left, sign, right):
     if sign in (">", ">=", "="):
         found.append((v, u, more - rest - 1 if sign == ">" else more - rest))
     return found
-
-
-def _worth(branch, field, base, offset):
-    """What a term stands for now, as the index of a number and a constant."""
-    if base in field.settled:
-        return (field.settled[base], offset)
-    cast = field.cast
-    if base in cast.row_of:
-        lst, worth, more = branch.rows[cast.row_of[base]]
-        return (worth, more + offset)
-    worth, more = field.rows_in(branch, cast.list_of[base.removeprefix("count ")])
-    return (worth, more + offset)

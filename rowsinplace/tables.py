@@ -1,7 +1,7 @@
 """Tables: where the rows of a kind come to, told for all scenes of a world by bounds."""
 from rowsinplace.casts import Cast
 from rowsinplace.errors import BadKind, BadWorld, TooMany
-from rowsinplace.runs import Field, play
+from rowsinplace.fields import followed, has_place, played
 from rowsinplace.scenes import worlds_of
 
 MOST_COMPARISONS = 6
@@ -21,7 +21,7 @@ def numbers_of(op, world, kind):
     check_kind(op, world, kind)
     cast = Cast(op, world)
     named = [row for row in ("x", "y") if row in cast.homes]
-    place = ["k"] if op in ("put", "move") else []
+    place = ["k"] if has_place(op) else []
     spot = ["row"] if kind in cast.lists else []
     return (*cast.lists, *named, *place, *spot)
 
@@ -31,7 +31,7 @@ def table(handler, world, kind):
     check_kind(handler.op, world, kind)
     check_comparisons(handler.comparisons, MOST_COMPARISONS)
     field, row = followed(handler.op, world, kind)
-    return [_entry(branch, row, field.names) for branch in play(handler, field, [row], field.starts())]
+    return [_entry(branch, row, field.names) for branch in played(handler, world, field, [row], field.starts())]
 
 
 def check_kind(op, world, kind):
@@ -46,17 +46,14 @@ def check_comparisons(count, limit):
         raise TooMany(limit)
 
 
-def followed(op, world, kind):
-    """The scenes with a row of a kind, and the name of this row in them."""
-    if kind in ("x", "y"):
-        return (Field(op, world, ()), kind)
-    return (Field(op, world, (kind,)), "row")
+def told_end(end, names):
+    """An end as it is told: with the name of its number in the place of the index."""
+    if end is None:
+        return None
+    lst, number, offset = end
+    return (lst, names[number], offset)
 
 
 def _entry(branch, row, names):
     bounds = [(names[u], names[v], c) for u, v, c in branch.path]
-    end = branch.rows.get(row)
-    if end is not None:
-        lst, worth, offset = end
-        end = (lst, names[worth], offset)
-    return (tuple(bounds), end)
+    return (tuple(bounds), told_end(branch.rows.get(row), names))

@@ -196,6 +196,24 @@ def call(lines, rows, arguments, visit=None):
     return {row: tuple(spot) for row, spot in run.rows.items()}
 
 
+def first_meeting(lines, rows, arguments):
+    """The first step that may clash if the rows of a shift are visited in any order, with both rows; or None."""
+    run = Run({row: list(spot) for row, spot in rows.items()}, **arguments)
+    for index, line in enumerate(lines):
+        before = {row: tuple(spot) for row, spot in run.rows.items()}
+        guard, action = parts(line)
+        is_open = run.guarded(guard)
+        run.step(index, line)
+        changed = [row for row in run.rows if before.get(row) != tuple(run.rows[row])]
+        if action.startswith("write") and is_open:
+            changed = [run.named[action[6]]]
+        for row in sorted(changed, key=lambda row: (*before.get(row, ("", 0)), row)):
+            others = [other for other in before if other != row and before[other] == tuple(run.rows[row])]
+            if others and action != "drop x":
+                return (index, row, min(others))
+    return None
+
+
 def allowed_argument(op, rows, arguments):
     """The name of the first argument that does not fit, or None; rows is a dict to (list, place)."""
     have = {

@@ -35,6 +35,11 @@ PARAMETERS = {
 LOUD = {"__init__", "__call__", "__iter__", "__setitem__", "__iadd__", "__isub__"}
 CHANGE = {"append", "extend", "insert", "pop", "remove", "clear", "update", "setdefault", "reverse", "sort"}
 
+NO_ATTRIBUTES = {
+    "items", "keys", "values", "pop", "update", "append", "clear", "extend", "insert", "remove", "reverse", "setdefault",
+    "sort", "args", "encode", "decode", "hex", "fromhex", "format",
+}
+
 LAZY = {"range", "zip", "enumerate", "reversed", "items", "keys", "values"}
 TAKE_LAZY = {"list", "tuple", "dict", "sorted", "sum", "any", "all", "enumerate", "zip", "min", "max", "len", "join"}
 
@@ -225,6 +230,19 @@ class Form(unittest.TestCase):
             for node in ast.walk(function):
                 if isinstance(node, ast.Call) and isinstance(node.func, ast.Attribute):
                     self.assertNotIn(node.func.attr, stored, (function.name, node.lineno))
+
+    def test_attributes_have_names_of_their_own(self):
+        methods = {node.name for path, tree in trees() for kind in ast.walk(tree) if isinstance(kind, ast.ClassDef)
+                   for node in kind.body if isinstance(node, ast.FunctionDef)}
+        self.assertEqual(stored_attributes() & methods, set())
+        self.assertEqual(stored_attributes() & NO_ATTRIBUTES, set())
+
+    def test_caught_errors_have_names_of_their_own(self):
+        for path, tree in trees():
+            for function in [node for node in ast.walk(tree) if isinstance(node, ast.FunctionDef)]:
+                names = [node.name for node in ast.walk(function) if isinstance(node, ast.ExceptHandler) and node.name]
+                self.assertEqual(len(names), len(set(names)), (path, function.name))
+                self.assertEqual(set(names) & set(bound_in(function)), set(), (path, function.name))
 
     def test_generators_are_iterated_at_once_and_have_names_of_their_own(self):
         functions = [(path, node) for path, tree in trees() for node in ast.walk(tree) if isinstance(node, ast.FunctionDef)]

@@ -4,9 +4,9 @@ import random
 import unittest
 
 from rowsinplace.bounds import Bounds
+from rowsinplace.fields import scene_field
 from rowsinplace.plain import OPERATIONS
 from rowsinplace.regions import least, narrowed, parted, whole
-from rowsinplace.runs import Field
 from rowsinplace.scenes import worlds_of
 from rowsinplace.tables import kinds_of, numbers_of
 from test_tables import apart, standing
@@ -68,7 +68,7 @@ class Fields(unittest.TestCase):
     def test_starts_are_the_scenes_and_the_rows_of_a_kind(self):
         for op in OPERATIONS:
             for world, kind in [(world, kind) for world in worlds_of(op) for kind in kinds_of(op, world)]:
-                field = Field(op, world, (kind,) if kind in ("home", "to", "other") else ())
+                field = scene_field(op, world, (kind,) if kind in ("home", "to", "other") else ())
                 expected = [name for name in numbers_of(op, world, kind) if name != "other" or kind == "other"]
                 self.assertEqual(sorted(field.names), sorted(["zero", *expected]))
                 starts = [branch.region for branch in field.starts()]
@@ -85,7 +85,7 @@ class Fields(unittest.TestCase):
             self.assertEqual(len(inside), int(right), (names, numbers))
 
     def test_two_rows_of_a_list(self):
-        field = Field("swap", "within", ("home", "home"))
+        field = scene_field("swap", "within", ("home", "home"))
         starts = field.starts()
         self.assertEqual(len(starts), 12)
         for branch in starts:
