@@ -5,6 +5,7 @@ import unittest
 import reference_scenes
 from lines import Drawn
 from odd_objects import BIG, NESTED, NO_NAMES
+from rowsinplace import papers
 from rowsinplace import tables as module
 from rowsinplace.bounds import Bounds
 from rowsinplace.errors import BadKind, BadOperation, BadWorld, TooMany
@@ -227,6 +228,19 @@ class Tables(unittest.TestCase):
             for world in worlds_of(op):
                 found = table(Handler(op, "shift home by 2 where place = old x except x"), world, "home")
                 self.assertEqual({end for bounds, end in found}, {("home", "row", 0)})
+
+    def test_each_entry_has_a_scene_with_the_rows_at_different_places(self):
+        """The bounds of an entry and the standing bounds have a solution, and not for row = x or x = y alone."""
+        for op, seed in itertools.product(OPERATIONS, range(16)):
+            drawn = Drawn(seed, (2, 9)[seed % 2])
+            handler = Handler(op, *(drawn.handler(op) if seed % 3 else drawn.nearly(op)))
+            for world in worlds_of(op):
+                for kind in kinds_of(op, world):
+                    stands = papers.standing(op, world, kind)
+                    ways = list(itertools.product(*[((u, v, -1), (v, u, -1)) for u, v in apart(op, world, kind)]))
+                    for bounds, end in table(handler, world, kind):
+                        self.assertIsNotNone(Bounds(*stands, *bounds).least())
+                        self.assertTrue(any(Bounds(*stands, *bounds, *way).least() is not None for way in ways), (handler.text, bounds))
 
     def test_too_many_comparisons(self):
         six = Handler("move", "shift home by 1 where place = 1 and place = 2 and place = 3")

@@ -5,7 +5,6 @@ from unittest import mock
 import reference
 import reference_scenes
 from lines import Drawn
-from odd_objects import NO_NAMES
 from rowsinplace import undoing as module
 from rowsinplace import verdicts
 from rowsinplace.errors import BadPair, TooMany
@@ -17,6 +16,17 @@ from rowsinplace.verdicts import Verdict
 NEW = ("put", "add")
 MOST = {"move": 4, "swap": 4, "send": 4, "put": 6}
 KEYS = {op: [key for total in range(MOST.get(op, 7) + 1) for key in reference_scenes.keys(op, total)] for op in OPERATIONS}
+
+
+# The operations that undo each other.
+BACK = [
+    ("put", "take"), ("add", "take"), ("take", "put"), ("move", "move"), ("send", "move"), ("top", "move"),
+    ("bottom", "move"), ("up", "move"), ("down", "move"), ("swap", "swap"),
+]
+
+
+def told(verdict):
+    return None if verdict.holds else (verdict.scene.key, verdict.fault)
 
 
 def lines_of(handler):
@@ -89,10 +99,7 @@ class Pairs(Undone):
                 self.assertBadPair(first, second)
             elif self.assertUndoes(first, second) == "holds":
                 holds.append((op, other))
-        self.assertEqual(holds, [
-            ("put", "take"), ("add", "take"), ("take", "put"), ("move", "move"), ("send", "move"), ("top", "move"),
-            ("bottom", "move"), ("up", "move"), ("down", "move"), ("swap", "swap"),
-        ])
+        self.assertEqual(holds, BACK)
 
     def assertBadPair(self, first, second):
         with self.assertRaises(BadPair) as caught:
@@ -127,7 +134,89 @@ class Pairs(Undone):
             lines, others = Drawn(seed, 9).nearly(op, 3), Drawn(seed + 50, 3).nearly(other, 3)
             if fits(op, lines, other, others):
                 found.append(self.assertUndoes(Handler(op, *lines), Handler(other, *others)))
-        print({name: found.count(name) for name in set(found)})
+        self.assertGreater(found.count("near"), 150)
+
+    def test_right_handlers_and_changed_ones(self):
+        found = []
+        for (op, other), seed in itertools.product(BACK, range(14)):
+            lines = Drawn(seed, 9).nearly(op, 3)
+            if fits(op, lines, other, lines_of(pattern(other))):
+                found.append(self.assertUndoes(Handler(op, *lines), pattern(other)))
+            lines = Drawn(seed + 300, (9, 4)[seed % 2]).nearly(other, 3)
+            if fits(op, lines_of(pattern(op)), other, lines):
+                found.append(self.assertUndoes(pattern(op), Handler(other, *lines)))
+        self.assertGreater(found.count("near"), 60)
+        self.assertGreater(found.count("holds"), 80)
+        self.assertGreater(found.count("far"), 3)
+
+    def test_the_search_through_few_scenes_only_saves_time(self):
+        for (op, other), seed in itertools.product(BACK, range(20, 26)):
+            lines, others = Drawn(seed, 9).nearly(op, 3), Drawn(seed + 300, 2).nearly(other, 3)
+            if fits(op, lines, other, others):
+                first, second = Handler(op, *lines), Handler(other, *others)
+                found = told(undoes(first, second))
+                with mock.patch.object(verdicts, "FEW", -1):
+                    self.assertEqual(told(undoes(first, second)), found)
+
+
+class Told(Undone):
+    """What is told of some handlers, to the letter."""
+
+    def test_a_new_row_is_back_if_it_is_off_the_board(self):
+        self.assertEqual(told(undoes(pattern("add"), Handler("take"))), ((0, 0, 0, 0, 0, 0, 0), (("new", 0), ("to", 1))))
+        self.assertIsNone(told(undoes(pattern("add"), Handler("take", "drop x"))))
+        self.assertEqual(told(undoes(pattern("put"), Handler("take", "drop x"))), ((1, 0, 0, 1, 0, 0, 1), (("to", 1), ("to", 2))))
+
+    def test_rows_that_are_dropped_and_written_anew(self):
+        self.assertIsNone(told(undoes(Handler("take", "drop x"), Handler("put", "write x to k"))))
+        self.assertIsNone(told(undoes(Handler("take", "drop x", "write x home 1"), Handler("move", "drop x", "write x to k"))))
+        self.assertEqual(told(undoes(Handler("take", "drop x"), Handler("put"))), ((1, 0, 1, 0, 1, 0, 0), (("home", 1), None)))
+        self.assertEqual(told(undoes(Handler("top"), Handler("take", "drop x"))), ((1, 0, 1, 0, 1, 0, 0), (("home", 1), None)))
+        self.assertEqual(told(undoes(Handler("take", "drop x"), Handler("add", "write x to count to + 1"))),
+                         ((2, 0, 2, 0, 1, 0, 0), (("home", 1), ("home", 2))))
+
+    def test_lists_of_the_second_call(self):
+        # Its list home is the one that x has then, and its list to is the one that x had.
+        there = Handler("move", "write x to k", "when apart do shift to by 1 where place >= k except x")
+        back = Handler("move", "when apart do shift home by -1 where place > x", "write x to k")
+        self.assertIsNone(told(undoes(there, back)))
+        swap = Handler("swap", "write x to old y", "write y home old x")
+        self.assertIsNone(told(undoes(swap, Handler("swap", "write y home x", "write x to old y"))))
+        self.assertEqual(told(undoes(swap, Handler("move", "write x to k")))[0], (2, 1, 1, 1, 1, 1, 0))
+
+    def test_the_second_call_is_carried_out_whether_or_not_it_is_allowed(self):
+        # Behind the first call there are too few rows for the place k.
+        there, back = Handler("send", "when apart do write x to 1"), Handler("move", "write x to k")
+        self.assertIsNone(told(undoes(there, back)))
+
+    def test_far(self):
+        there = Handler("top", "shift home by 1 where place < x and place < 9", "write x home 1")
+        self.assertEqual(told(undoes(there, pattern("move"))), ((10, 0, 10, 0, 10, 0, 0), (("home", 9), ("home", 8))))
+        back = Handler("put", "shift to by 1 where place >= k and place < k + 9", "write x to k")
+        self.assertEqual(told(undoes(pattern("take"), back)), ((11, 0, 11, 0, 1, 0, 0), (("home", 11), ("home", 10))))
+        back = Handler("move", "shift home by -1 where place > x", "shift to by 1 where place >= k except x", "when x < 9 do write x to k")
+        self.assertEqual(told(undoes(pattern("bottom"), back)), ((9, 0, 9, 0, 1, 0, 0), (("home", 1), ("home", 9))))
+
+
+class Wrong(unittest.TestCase):
+    def test_the_function_stands_in_the_module(self):
+        self.assertEqual(module.undoes.__module__, "rowsinplace.undoing")
+
+    def test_too_many_comparisons_of_both_together_behind_bad_pair(self):
+        three = ["shift home by 1 where place > 1 and place > 2 and place > 3"]
+        six = ["shift home by 1 where place = 1 and place = 2 and place = 3"]
+        self.assertIs(type(undoes(Handler("top", *three), Handler("move", *three))), Verdict)
+        self.assertIs(type(undoes(Handler("top", *six), Handler("move"))), Verdict)
+        for first, second in ((Handler("top", *three, *three), Handler("move", *three)), (Handler("top", *six), Handler("move", *three)),
+                              (Handler("top"), Handler("move", *six, *three)), (Handler("top", *six), Handler("take", *six))):
+            with self.assertRaises(TooMany) as caught:
+                undoes(first, second)
+            self.assertEqual(caught.exception.limit, 6)
+        for first, second in ((Handler("top", *six), Handler("swap", *six)), (Handler("top", *six), Handler("put", "write x to 1")),
+                              (Handler("top", *six), Handler("bottom", *six, "write x home old last home"))):
+            with self.assertRaises(BadPair) as caught:
+                undoes(first, second)
+            self.assertEqual((caught.exception.first, caught.exception.second), (first.op, second.op))
 
 
 if __name__ == "__main__":

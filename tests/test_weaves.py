@@ -218,7 +218,7 @@ class Searched(unittest.TestCase):
     def test_drawn_handlers(self):
         draw = random.Random(8)
         found = []
-        for number in range(160):
+        for number in range(240):
             ops = [draw.choice(ASKED), draw.choice(ASKED)]
             first = self.drawn_handler(draw, ops[0], number, 2)
             second = self.drawn_handler(draw, ops[1], number + 500, 2)
@@ -226,7 +226,232 @@ class Searched(unittest.TestCase):
             same = number % 2 == 0 and not drops and not {"put", "add", "take"} & set(ops)
             order = draw.choice(list(orders(first, second)))
             found.append(self.assertWeave((first, second), order, same, 4))
-        print({name: found.count(name) for name in set(found)})
+        self.assertGreater(found.count("near"), 150)
+        self.assertGreater(found.count("holds"), 25)
+
+    def test_handlers_whose_faults_may_be_far(self):
+        draw = random.Random(9)
+        found = []
+        for number in range(200):
+            first, second = [self.far_handler(draw) for _ in range(2)]
+            same = number % 2 == 0 and not {first.op, second.op} & {"put", "add", "take"}
+            order = draw.choice(list(orders(first, second)))
+            found.append(self.assertWeave((first, second), order, same, 4))
+        self.assertGreater(found.count("far"), 30)
+        self.assertGreater(found.count("holds"), 5)
+
+    def far_handler(self, draw):
+        """A handler that does nothing in short lists, or keeps lists dense."""
+        op = draw.choice(("top", "bottom", "add", "move", "take"))
+        lst = "to" if op == "add" else "home"
+        lines = [f"shift {lst} by {draw.choice(('1', '-1'))} where place > {draw.randint(4, 9)}"]
+        if draw.random() < 0.3:
+            lines = [f"when count {lst} > {draw.randint(4, 9)} do shift {lst} by 1"]
+        if op == "add":
+            lines.append("write x to count to + 1")
+        if op == "take":
+            lines += ["drop x", "shift home by -1 where place > old x"]
+        if draw.random() < 0.4:
+            lines.insert(0, lines[0].replace("by -1", "by *").replace("by 1", "by -1").replace("by *", "by 1"))
+        handler = Handler(op, *lines)
+        return handler if handler.comparisons <= 2 else Handler(op, *lines[-1:])
+
+    def test_the_search_through_short_lists_only_saves_time(self):
+        draw = random.Random(10)
+        for number in range(60):
+            first = self.drawn_handler(draw, draw.choice(ASKED), number, 2)
+            second = self.drawn_handler(draw, draw.choice(ASKED), number + 900, 2)
+            for order in list(orders(first, second))[::5]:
+                found = told(weave(first, second, order))
+                with mock.patch.object(module, "FEW", -1):
+                    self.assertEqual(told(weave(first, second, order)), found)
+
+
+class Told(unittest.TestCase):
+    """What is told of some handlers, to the letter."""
+
+    def test_two_that_come_to_the_end(self):
+        add = Handler("add", "write x to count to + 1")
+        self.assertTrue(weave(first=add, second=add, order="abab", same=False))
+        old = Handler("add", "write x to old count to + 1")
+        answer = weave(old, old, "abab")
+        self.assertEqual(answer.numbers, {"count": 0, "x": 0, "k": 0, "u": 0, "l": 0})
+        self.assertEqual(answer.fault, ("double", ("new", 0), ("new", 1)))
+        self.assertEqual((answer.holds, bool(answer)), (False, False))
+        self.assertTrue(weave(old, old, "aabb").holds)
+
+    def test_numbers_and_spots(self):
+        put, take, top = pattern("put"), pattern("take"), pattern("top")
+        self.assertIsNone(told(weave(put, put, "abaabb")))
+        self.assertEqual(told(weave(put, put, "ababab")), ((0, 0, 1, 0, 1), ("double", ("new", 0), ("new", 1))))
+        lines = ["write x to k"]
+        self.assertEqual(told(weave(Handler("put", *lines), top, "aabbb")), ((1, 0, 1, 1, 0), ("double", ("new", 0), ("list", 1))))
+        self.assertEqual(told(weave(top, Handler("put", *lines), "aaabb")), ((1, 1, 0, 0, 1), ("double", ("new", 1), ("list", 1))))
+        self.assertEqual(told(weave(Handler("take", "drop x"), top, "aabbb")), ((3, 1, 0, 2, 0), ("high", ("list", 3))))
+        self.assertEqual(told(weave(Handler("top", "write x home 0"), top, "aabbb", same=True)),
+                         ((2, 2, 0, 2, 0), ("double", ("list", 1), ("list", 2))))
+        self.assertIsNone(told(weave(Handler("top", "write x home 0", "write x home old x"), top, "aaabbb", same=True)))
+        self.assertEqual(told(weave(Handler("top", "write x home 0"), top, "bbbaa", same=True)), ((1, 1, 0, 1, 0), ("low", ("list", 1))))
+        self.assertEqual(told(weave(Handler("add"), Handler("add", "write x to 3"), "aabb"[1:])), ((0, 0, 0, 0, 0), ("high", ("new", 1))))
+        self.assertTrue(weave(take, Handler("top"), "aaab").holds)
+
+    def test_within_holds_and_apart_does_not(self):
+        for guard, found in (("apart", None), ("within", ((1, 1, 0, 0, 0), ("low", ("list", 1))))):
+            send = Handler("send", f"when {guard} do write x home 0")
+            self.assertEqual(told(weave(send, Handler("add", "write x to count to + 1"), "aabb")), found)
+
+    def test_far(self):
+        down = Handler("top", "shift home by -1 where place > 9")
+        self.assertEqual(told(weave(down, Handler("bottom"), "aab")), ((10, 1, 0, 2, 0), ("double", ("list", 9), ("list", 10))))
+        self.assertEqual(told(weave(down, Handler("bottom"), "aab", same=True)), ((10, 1, 0, 1, 0), ("double", ("list", 9), ("list", 10))))
+        back = Handler("bottom", "shift home by 1 where place > 8")
+        self.assertEqual(told(weave(down, back, "aabb")), ((9, 1, 0, 2, 0), ("high", ("list", 9))))
+
+    def test_a_new_dict_each_time(self):
+        old = Handler("add", "write x to old count to + 1")
+        weave(old, old, "abab").numbers.clear()
+        self.assertEqual(sorted(weave(old, old, "abab").numbers), ["count", "k", "l", "u", "x"])
+
+
+class Safe(unittest.TestCase):
+    def test_just_the_orders_for_which_weave_holds(self):
+        draw = random.Random(11)
+        lengths = []
+        for number in range(60):
+            ops = [draw.choice(ASKED), draw.choice(ASKED)]
+            lines = []
+            for op in ops:
+                some = [line for line in pattern(op).text.split("\n")[1:] if "=" not in line or ">=" in line][:2]
+                lines.append(some if draw.random() < 0.7 else Drawn(number, 2).handler(op, 2, 1))
+            first, second = [Handler(op, *some) for op, some in zip(ops, lines)]
+            if first.comparisons + second.comparisons > 3 or "old last" in first.text + second.text:
+                continue
+            for same in (False, True):
+                if same and ({"put", "add", "take"} & set(ops) or "drop" in first.text + second.text):
+                    continue
+                found = safe_orders(first=first, second=second, same=same)
+                self.assertIs(type(found), list)
+                self.assertEqual(found, [order for order in orders(first, second) if weave(first, second, order, same=same)])
+                lengths.append(len(found))
+                found.append("ab")
+                self.assertEqual(safe_orders(first, second, same=same), found[:-1])
+        self.assertGreater(len([1 for length in lengths if 0 < length < 10]), 5)
+
+    def test_to_the_letter(self):
+        add, old = Handler("add", "write x to count to + 1"), Handler("add", "write x to old count to + 1")
+        self.assertEqual(safe_orders(add, add), ["aabb", "abab", "abba", "baab", "baba", "bbaa"])
+        self.assertEqual(safe_orders(old, old), ["aabb", "bbaa"])
+        # The call b goes wrong if it has begun when the row of a comes, and its own row comes then.
+        self.assertEqual(safe_orders(add, old), ["aabb", "abba", "baba", "bbaa"])
+
+
+class Wrong(unittest.TestCase):
+    def assertBad(self, error, attributes, call):
+        with self.assertRaises(error) as caught:
+            call()
+        self.assertEqual(vars(caught.exception), attributes)
+
+    def test_pairs_that_cannot_be_asked_about(self):
+        last = {"top": Handler("top", "write x home old last home"), "add": Handler("add", "write x to old last to + 1"),
+                "send": Handler("send", "when old last to > 1 do write x to 1")}
+        many = Handler("top", "shift home by 1 where place = 1 and place = 2 and place = 3", *["shift home by 1"] * 3)
+        for op in ASKED:
+            for first, second in ((pattern("swap"), pattern(op)), (pattern(op), pattern("swap")), (pattern("swap"), many), (many, pattern("swap"))):
+                for same in (False, True):
+                    self.assertBadPair(first, second, same)
+            for handler in last.values():
+                self.assertBadPair(pattern(op), handler, False)
+                self.assertBadPair(handler, many, False)
+        for op in ("put", "add", "take"):
+            for other in [pattern(name) for name in ASKED] + [many]:
+                self.assertBadPair(pattern(op), other, True)
+                self.assertBadPair(other, pattern(op), True)
+        dropping = Handler("move", "drop x", "write x to k")
+        for other in (pattern("top"), many, dropping):
+            self.assertBadPair(dropping, other, True)
+            self.assertBadPair(other, dropping, True)
+        self.assertIs(type(weave(dropping, pattern("top"), "aaabbb")), Woven)
+
+    def assertBadPair(self, first, second, same):
+        expected = {"first": first.op, "second": second.op}
+        self.assertBad(BadPair, expected, lambda: weave(first, second, None, same=same))
+        self.assertBad(BadPair, expected, lambda: safe_orders(first, second, same=same))
+
+    def test_too_many_comparisons_and_steps(self):
+        one, two = Handler("top", "shift home by 1 where place > 1"), Handler("top", "shift home by 1 where place = 1")
+        three = Handler("top", "shift home by 1 where place = 1 and place > 1")
+        steps = Handler("top", *["shift home by 1"] * 3)
+        self.assertIs(type(weave(two, two, "aabb")), Woven)
+        self.assertIs(type(weave(one, three, "aabb")), Woven)
+        for first, second in ((two, three), (three, two)):
+            self.assertBad(TooMany, {"limit": 4}, lambda: weave(first, second, None))
+            self.assertBad(TooMany, {"limit": 3}, lambda: safe_orders(first, second))
+        self.assertBad(TooMany, {"limit": 3}, lambda: safe_orders(two, two))
+        self.assertBad(TooMany, {"limit": 3}, lambda: safe_orders(steps, Handler("top", *three.text.split("\n")[1:], *["shift home by 1 where place > 1"] * 2)))
+        self.assertIs(type(safe_orders(one, two)), list)
+        for first, second in ((steps, one), (one, steps), (steps, steps)):
+            self.assertBad(TooMany, {"limit": 2}, lambda: safe_orders(first, second))
+            self.assertBad(BadOrder, {"order": "ab"}, lambda: weave(first, second, "ab"))
+
+    def test_bad_orders(self):
+        top, add = pattern("top"), pattern("add")
+        wrong = NO_NAMES + ["ab", "aabb", "aaabbb", "bbbaa", "aaab", "aaabbc", "AAABB", ["a", "a", "a", "b", "b"], ("aaabb",), "aaabb\n", " aaabb", "aabbb"]
+        for thing in wrong:
+            self.assertBad(BadOrder, {"order": thing}, lambda: weave(top, add, thing))
+            board = Board.of({"home": ["x", "a"]})
+            self.assertBad(BadOrder, {"order": thing}, lambda: woven(board, thing, top, {"x": "x"}, add, {"x": "n", "to": "home"}))
+            self.assertEqual(board.rows_of("home"), ["x", "a"])
+        self.assertIs(type(weave(top, add, "aaabb")), Woven)
+
+    def test_errors_of_woven_in_their_order(self):
+        top, put, take = pattern("top"), pattern("put"), pattern("take")
+        lists = {"home": ["x", "a", "b"], "to": ["c"]}
+
+        def ask(first, arguments, second, others, order=None):
+            board = Board.of(lists)
+            kept = (dict(arguments), dict(others))
+            try:
+                return woven(board=board, order=order, first=first, arguments=arguments, second=second, other_arguments=others)
+            finally:
+                self.assertEqual((arguments, others), kept)
+                self.assertEqual({lst: board.rows_of(lst) for lst in board.list_names()}, lists)
+
+        for thing in NO_NAMES:
+            if thing is not None:
+                self.assertBad(BadCall, {"argument": "k"}, lambda: ask(top, {"x": "a", "k": thing}, top, {"x": "n"}))
+                self.assertBad(BadCall, {"argument": "y"}, lambda: ask(top, {"x": "a", "y": thing}, top, {}))
+                self.assertBad(BadCall, {"argument": "to"}, lambda: ask(top, {"x": "a"}, top, {"x": "b", "to": thing}))
+            self.assertBad(BadCall, {"argument": "x"}, lambda: ask(top, {"x": thing}, top, {"x": thing}))
+            self.assertBad(BadCall, {"argument": "x"}, lambda: ask(top, {"x": "a"}, top, {"x": thing}))
+            self.assertBad(BadCall, {"argument": "to"}, lambda: ask(put, {"x": "n", "to": thing, "k": 1}, top, {"x": "b"}))
+            if thing != 1 or thing is True:
+                self.assertBad(BadCall, {"argument": "k"}, lambda: ask(put, {"x": "n", "to": "to", "k": thing}, top, {"x": "b"}))
+        self.assertBad(BadCall, {"argument": "x"}, lambda: ask(put, {}, put, {}))
+        self.assertBad(BadCall, {"argument": "to"}, lambda: ask(put, {"x": "n"}, put, {}))
+        # Both calls must be allowed before the first event: row n is no row then, and k goes by the rows then.
+        self.assertBad(BadCall, {"argument": "x"}, lambda: ask(put, {"x": "n", "to": "to", "k": 1}, top, {"x": "n"}))
+        self.assertBad(BadCall, {"argument": "k"}, lambda: ask(put, {"x": "n", "to": "to", "k": 1}, put, {"x": "m", "to": "to", "k": 3}))
+        for first, arguments, second, others in (
+            (put, {"x": "n", "to": "to", "k": 1}, put, {"x": "n", "to": "home", "k": 1}), (take, {"x": "a"}, top, {"x": "a"}),
+            (top, {"x": "a"}, take, {"x": "a"}), (pattern("swap"), {"x": "a", "y": "b"}, take, {"x": "b"}),
+            (Handler("top", "drop x"), {"x": "a"}, pattern("swap"), {"x": "b", "y": "a"}),
+        ):
+            self.assertBad(BadPair, {"first": first.op, "second": second.op}, lambda: ask(first, arguments, second, others))
+
+    def test_two_calls_with_one_row(self):
+        board = Board.of({"home": ["x", "a", "b"], "to": ["c"]})
+        top, bottom = Handler("top", "write x home 0"), Handler("bottom", "write x home x + 5")
+        self.assertIsNone(woven(board, "abab", top, {"x": "a"}, bottom, {"x": "a", "y": None, "k": None}))
+        self.assertEqual(board.at("a"), ("home", 5))
+        old = Handler("bottom", "write x home old x + 5")
+        woven(board, "baab", top, {"x": "a"}, old, {"x": "a"})
+        self.assertEqual(board.at("a"), ("home", 10))
+
+    def test_the_example_of_promise_3(self):
+        """For each question there is a handler for which it holds, and one for which it does not."""
+        add, old = Handler("add", "write x to count to + 1"), Handler("add", "write x to old count to + 1")
+        self.assertEqual([bool(weave(add, add, "abab")), bool(weave(old, old, "abab"))], [True, False])
+        self.assertEqual(["abab" in safe_orders(add, add), "abab" in safe_orders(old, old)], [True, False])
 
 
 if __name__ == "__main__":
