@@ -67,7 +67,7 @@ def _solved(bounds):
     From 0 on, each name is raised to what the bounds ask for. A name that is raised once more,
     when each name has had its turn, or zero itself, has a ring of bounds behind it.
     """
-    values = {name: 0 for name in [ZERO, *[name for bound in bounds for name in bound[:2]]]}
+    values = {name: 0 for name in [ZERO, *[end for bound in bounds for end in bound[:2]]]}
     causes = {name: (ZERO, name, 0) for name in values if name != ZERO}
     for _ in range(len(values) + 1):
         raised = None

@@ -1,6 +1,6 @@
 """Handlers: calls written by hand as steps, and the patterns of the operations."""
 from rowsinplace.calls import Call
-from rowsinplace.errors import BadLine, BadOperation, BadStep, BadText, BadVisit, TooMany
+from rowsinplace.errors import BadLine, BadStep, BadText, BadVisit, TooMany
 from rowsinplace.plain import NEW, OPERATIONS, arguments_of, check_call
 from rowsinplace.steps import Drop, Shift, Write, read_step, signs_of
 

@@ -77,12 +77,19 @@ class Judge:
 
     def _passes(self, handler):
         """Whether a handler is right in the scenes that are kept; the scene of a fault comes to the front."""
+        at = self._first_fault(handler)
+        if at is None:
+            return True
+        self._scenes = [self._scenes[at], *self._scenes[:at], *self._scenes[at + 1:]]
+        return False
+
+    def _first_fault(self, handler):
+        """The index of the first of the scenes that are kept in which a handler is not right, or None."""
         for index, (scene, dues) in enumerate(self._scenes):
             course = Course(handler, scene)
             if not all([course.end(spot) == due for spot, due in dues]):
-                self._scenes = [(scene, dues), *self._scenes[:index], *self._scenes[index + 1:]]
-                return False
-        return True
+                return index
+        return None
 
     def _is_proven(self, handler):
         """Whether a handler is right in all scenes; the scene of a fault is kept."""

@@ -1,7 +1,7 @@
 """Undoing: whether one call brings back each row that another one has moved."""
 from rowsinplace.calls import Call
 from rowsinplace.errors import BadPair
-from rowsinplace.fields import followed, has_list, has_place, played, scene_caller
+from rowsinplace.fields import followed, has_list, scene_caller
 from rowsinplace.handlers import has_last
 from rowsinplace.plain import NEW
 from rowsinplace.regions import unlike

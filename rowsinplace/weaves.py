@@ -212,7 +212,10 @@ class Weaving:
             k = (field.ranks[self._places[letter]], 0) if has_place(handler.op) else None
             to = "list" if has_list(handler.op) else None
             waiting[letter] = Caller(letter, handler, {"x": self._rows[letter]}, to, k).events()
-        return [waiting[letter].pop(0) for letter in order]
+        found = []
+        for letter in order:
+            found.append(waiting[letter].pop(0))
+        return found
 
     def _numbers(self, field, part):
         """The least numbers of a part."""

@@ -174,6 +174,24 @@ class Form(unittest.TestCase):
                 if isinstance(node, ast.ImportFrom):
                     self.assertEqual((node.module.split(".")[0], node.level), ("rowsinplace", 0), path)
 
+    def test_every_import_is_used(self):
+        for path, tree in trees():
+            imported = {name.name for node in tree.body if isinstance(node, ast.ImportFrom) for name in node.names}
+            used = {node.id for node in ast.walk(tree) if isinstance(node, ast.Name)}
+            self.assertEqual(imported - used, set(), path)
+
+    def test_no_two_files_import_from_each_other(self):
+        known = {path.stem: {node.module.split(".")[1] for node in tree.body if isinstance(node, ast.ImportFrom)}
+                 for path, tree in trees()}
+        for name in known:
+            waiting, reached = list(known[name]), set()
+            while waiting:
+                other = waiting.pop()
+                if other not in reached:
+                    reached.add(other)
+                    waiting += known[other]
+            self.assertNotIn(name, reached)
+
     def test_statements_and_names(self):
         for path, tree in trees():
             for node in ast.walk(tree):

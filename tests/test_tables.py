@@ -4,7 +4,7 @@ import unittest
 
 import reference_scenes
 from lines import Drawn
-from odd_objects import BIG, NESTED, NO_NAMES
+from odd_objects import NESTED, NO_NAMES
 from rowsinplace import papers
 from rowsinplace import tables as module
 from rowsinplace.bounds import Bounds
