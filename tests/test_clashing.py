@@ -159,6 +159,9 @@ class Told(Clashes):
         lines = ["shift to by 3 where place > 9"]
         self.assertEqual(told(clash(Handler("add", *lines), "up")), ((13, 0, 0, 13, 0, 0, 0), (0, ("to", 10), ("to", 13))))
         self.assertIsNone(told(clash(Handler("add", *lines), "down")))
+        # Row x has been moved when its place is read.
+        lines = ["shift all by 2", "shift home by -1 where place > x + 8"]
+        self.assertEqual(told(clash(Handler("top", *lines), "down")), ((10, 0, 10, 0, 1, 0, 0), (1, ("home", 10), ("home", 9))))
         for visit in VISITS:
             verdict = clash(Handler("top", "write x home x + 9"), visit)
             self.assertEqual(told(verdict), ((10, 0, 10, 0, 1, 0, 0), (0, ("home", 1), ("home", 10))))

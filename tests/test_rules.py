@@ -175,6 +175,11 @@ class Told(Rules):
         answer = keeps(low, "unlike")
         self.assertTold(answer, "alone", {"home": (10,), "to": (), "other": ()}, {"x": 10, "y": 0, "k": 0})
         self.assertTrue(keeps(low, "dense"))
+        # A row that is neither x nor one of those that meet stands last, and counts.
+        answer = keeps(Handler("top", "when old last home > count home + 3 do write x home x - 3"), "unlike")
+        self.assertTold(answer, "alone", {"home": (1, 6), "to": (), "other": ()}, {"x": 1, "y": 0, "k": 0})
+        empty = Handler("add", "write x to old last to + 1", "when old last to > old count to do write x to 0")
+        self.assertTold(keeps(empty, "unlike"), "alone", {"home": (), "to": (2,), "other": ()}, {"x": 0, "y": 0, "k": 0})
         gap = Handler("bottom", "when old last home = old count home do write x home old last home + 1",
                       "when old last home > old count home do write x home old last home")
         self.assertKept(gap, "unlike", 4, 5)

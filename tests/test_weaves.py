@@ -447,6 +447,13 @@ class Wrong(unittest.TestCase):
         woven(board, "baab", top, {"x": "a"}, old, {"x": "a"})
         self.assertEqual(board.at("a"), ("home", 10))
 
+    def test_names_of_lists_are_no_names_of_rows(self):
+        board = Board.of({"a": ["a", "b"], "b": ["c"]})
+        self.assertIsNone(woven(board, "abbab", pattern("add"), {"x": "n", "to": "a"}, Handler("take", "drop x", "shift home by -1"), {"x": "a"}))
+        self.assertEqual((board.places_of("a"), board.rows_of("a")), ([1, 1], ["b", "n"]))
+        woven(board, "babaa", Handler("take", "drop x", "shift home by 1"), {"x": "n"}, pattern("add"), {"x": "m", "to": "n"})
+        self.assertEqual((board.rows_of("a"), board.rows_of("n")), (["b"], ["m"]))
+
     def test_the_example_of_promise_3(self):
         """For each question there is a handler for which it holds, and one for which it does not."""
         add, old = Handler("add", "write x to count to + 1"), Handler("add", "write x to old count to + 1")
