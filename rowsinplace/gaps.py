@@ -22,7 +22,8 @@ def first_gap(ends):
 
 def looked_at(named, lists):
     """The rows to look at, alone and two at a time, each with the kinds of those that no call names."""
-    return [*[([row], ()) for row in named], *[(["row"], (lst,)) for lst in lists], *paired_rows(named, lists)]
+    alone = [([row], ()) for row in named] + [(["row"], (lst,)) for lst in lists]
+    return alone + paired_rows(named, lists)
 
 
 def paired_rows(named, lists):
@@ -43,8 +44,8 @@ def gap_parts(branch, rows, field):
         return []
     lst, number, offset = branch.rows[row]
     last, more = field.rows_in(branch, lst)
-    parts = [*low_parts(branch, row), narrowed(branch.region, (last, number, offset - more - 1))]
-    return [part for part in parts if part is not None]
+    part = narrowed(branch.region, (last, number, offset - more - 1))
+    return low_parts(branch, row) + ([] if part is None else [part])
 
 
 def low_parts(branch, row):

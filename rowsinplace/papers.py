@@ -37,8 +37,8 @@ def paper(first, second, world, kind):
 def is_paper(first, second, world, kind, thing):
     """Whether any object is a paper that two handlers are alike for a world and a kind."""
     _check(first, second, world, kind)
-    names = ("zero", *numbers_of(first.op, world, kind))
-    if not _is_built(thing, names):
+    names = numbers_of(first.op, world, kind)
+    if not _is_built(thing, ("zero", *names)):
         return False
     return Reader(first, second, world, kind).is_right(thing)
 

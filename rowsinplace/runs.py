@@ -178,7 +178,8 @@ def changes(event, rows, branch, field):
         return ([], others)
     if isinstance(step, Write):
         base, offset = step.term
-        end = (sense.lists[step.target], *sense.worth(inside, field, base, offset))
+        number, more = sense.worth(inside, field, base, offset)
+        end = (sense.lists[step.target], number, more)
         return ([(inside, {sense.rows[step.row]: end})], others)
     return (_shifted(step, rows, inside, field, sense), others)
 

@@ -180,6 +180,19 @@ class Form(unittest.TestCase):
             used = {node.id for node in ast.walk(tree) if isinstance(node, ast.Name)}
             self.assertEqual(imported - used, set(), path)
 
+    def test_imports_name_the_file_that_defines_the_name(self):
+        defined = {}
+        for path, tree in trees():
+            names = {node.name for node in tree.body if isinstance(node, (ast.FunctionDef, ast.ClassDef))}
+            names |= {target.id for node in tree.body if isinstance(node, ast.Assign) for target in node.targets}
+            defined[path.stem] = names
+        for path, tree in trees():
+            for node in tree.body:
+                if isinstance(node, ast.ImportFrom):
+                    found = {name.name for name in node.names}
+                    self.assertEqual(found - defined[node.module.split(".")[1]], set(), path)
+                    self.assertTrue(all(name.asname is None for name in node.names), path)
+
     def test_no_two_files_import_from_each_other(self):
         known = {path.stem: {node.module.split(".")[1] for node in tree.body if isinstance(node, ast.ImportFrom)}
                  for path, tree in trees()}

@@ -405,7 +405,8 @@ class Read(unittest.TestCase):
                     self.assertIs(is_paper(first, second, world, kind, self.grown(some, len(some) - 1, opposite(bound))), True)
             outside = [name for name in ("home", "to", "other", "x", "y", "k", "row", "next", "q") if name not in names]
             for name in outside:
-                self.assertIs(is_paper(first, second, world, kind, self.grown(nodes, len(nodes) - 1, ("zero", name, 0))), False)
+                for bound in (("zero", name, 0), (name, "zero", 0), (name, names[1], 5)):
+                    self.assertIs(is_paper(first, second, world, kind, self.grown(nodes, len(nodes) - 1, bound)), False)
 
     def test_asks_that_always_hold_and_rings_behind_no(self):
         for first, second, world, kind, nodes in self.pairs():
