@@ -111,14 +111,7 @@ class Sense:
         self.rows = caller.rows
         self.lists = _lists(caller, branch)
         self.is_within = self.lists.get("home") == self.lists.get("to")
-        self._settled = {"0": (0, 0), "k": caller.k}
-        for word, row in self.rows.items():
-            if row in branch.rows:
-                self._settled[f"old {word}"] = branch.rows[row][1:]
-        for word, lst in self.lists.items():
-            self._settled[f"old count {word}"] = field.rows_in(branch, lst)
-            if lst in field.lasts:
-                self._settled[f"old last {word}"] = (field.ranks[field.lasts[lst]], 0)
+        self._settled = _settled(caller, self.lists, branch, field)
 
     def worth(self, branch, field, base, offset):
         """What a term stands for now, as the index of a number and a constant."""
@@ -205,6 +198,19 @@ def _lists(caller, branch):
         found["to"] = caller.to
     elif "y" in caller.rows:
         found["to"] = branch.rows[caller.rows["y"]][0]
+    return found
+
+
+def _settled(caller, lists, branch, field):
+    """What the bases are worth that stay as they are when a call begins, each as in Sense.worth."""
+    found = {"0": (0, 0), "k": caller.k}
+    for word, row in caller.rows.items():
+        if row in branch.rows:
+            found[f"old {word}"] = branch.rows[row][1:]
+    for word, lst in lists.items():
+        found[f"old count {word}"] = field.rows_in(branch, lst)
+        if lst in field.lasts:
+            found[f"old last {word}"] = (field.ranks[field.lasts[lst]], 0)
     return found
 
 

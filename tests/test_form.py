@@ -136,13 +136,41 @@ def names_for_one_list(function):
 
 
 def changed_in(rows):
-    """The names whose lists or dicts are changed in some statements."""
+    """What is changed in some statements: by an item, by an attribute, or by a method."""
     for node in [node for row in rows for node in ast.walk(row)]:
         if isinstance(node, ast.Call) and isinstance(node.func, ast.Attribute) and node.func.attr in CHANGE:
-            if isinstance(node.func.value, ast.Name):
-                yield node.func.value.id
-        if isinstance(node, ast.Subscript) and not isinstance(node.ctx, ast.Load) and isinstance(node.value, ast.Name):
-            yield node.value.id
+            yield node.func.value
+        if isinstance(node, ast.Subscript) and not isinstance(node.ctx, ast.Load):
+            yield node.value
+        if isinstance(node, ast.Attribute) and not isinstance(node.ctx, ast.Load):
+            yield node
+
+
+def walked_by(loop):
+    """What a loop goes over, also by way of enumerate, items and the like, or of a choice."""
+    waiting = [loop.iter]
+    while waiting:
+        node = waiting.pop()
+        if isinstance(node, ast.Call) and called(node) in LAZY:
+            waiting += [node.func.value] if isinstance(node.func, ast.Attribute) else node.args
+        elif isinstance(node, ast.IfExp):
+            waiting += [node.body, node.orelse]
+        elif isinstance(node, ast.BoolOp):
+            waiting += node.values
+        else:
+            yield node
+
+
+def loops_that_change_parts(tree):
+    """The loops over an attribute or an item of something that change one, be it the same or not.
+
+    Two attributes or items may be one list, so these rows are refused also where they are not.
+    """
+    parts = (ast.Attribute, ast.Subscript)
+    for loop in ast.walk(tree):
+        if isinstance(loop, ast.For) and any(isinstance(node, parts) for node in walked_by(loop)):
+            if any(isinstance(node, parts) for node in changed_in(loop.body)):
+                yield loop
 
 
 class Form(unittest.TestCase):
@@ -250,7 +278,28 @@ class Form(unittest.TestCase):
                     walked = {node.id for node in parts if isinstance(node, ast.Name)}
                     for pair in pairs:
                         walked |= pair if walked & pair else set()
-                    self.assertFalse(walked & set(changed_in(loop.body)), (path, loop.lineno))
+                    changed = {node.id for node in changed_in(loop.body) if isinstance(node, ast.Name)}
+                    self.assertFalse(walked & changed, (path, loop.lineno))
+
+    def test_loops_over_attributes_and_items_change_no_attribute_and_no_item(self):
+        for path, tree in trees():
+            self.assertEqual([loop.lineno for loop in loops_that_change_parts(tree)], [], path)
+
+    def test_what_counts_as_a_loop_that_changes_an_attribute_or_an_item(self):
+        refused = [
+            "for k, x in self.rows.items(): self.kept[k] = x", "for x in self.rows: self.kept.append(x)",
+            "for k, x in enumerate(self.rows): del self.kept[k]", "for x in rows[0]: rows[1].append(x)",
+            "for x in (a.rows if c else xs): a.n = x", "for x in a.rows or xs: a.rows[x] = 1",
+        ]
+        allowed = [
+            "for k, x in list(self.rows.items()): self.kept[k] = x", "for k, x in self.rows.items(): kept[k] = x",
+            "for x in sorted(self.rows): self.kept.append(x)", "for x in xs: self.kept.append(x)",
+            "for x in self.told(): self.kept.append(x)",
+        ]
+        for row in refused:
+            self.assertEqual(len(list(loops_that_change_parts(ast.parse(row)))), 1, row)
+        for row in allowed:
+            self.assertEqual(len(list(loops_that_change_parts(ast.parse(row)))), 0, row)
 
     def test_operators_and_properties_call_no_name_that_is_an_attribute(self):
         stored = stored_attributes()
